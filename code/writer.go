@@ -1,0 +1,174 @@
+package code
+
+import (
+	"whittle/api"
+	"whittle/funcs"
+	"whittle/value"
+)
+
+// writer lays the instructions of a formula, one behind the other.
+type writer struct {
+	site
+	list []api.Ins
+}
+
+func (w *writer) lay(ins api.Ins) { w.list = append(w.list, ins) }
+
+// later is what lays, when it is called, the place behind all that is written by then into the instruction that is the last one now.
+func (w *writer) later(into func(ins *api.Ins, place int)) func() {
+	at := len(w.list) - 1
+	// By its number: the list moves while it grows.
+	return func() { into(&w.list[at], len(w.list)) }
+}
+
+func intoA(ins *api.Ins, place int)  { ins.A = place }
+func intoB(ins *api.Ins, place int)  { ins.B = place }
+func intoTo(ins *api.Ins, place int) { ins.To = append(ins.To, place) }
+
+// jump lays an InsJump; what it answers lays its end.
+func (w *writer) jump() func() {
+	w.lay(api.Ins{Op: api.InsJump})
+	return w.later(intoA)
+}
+
+func (w *writer) push(v api.Value) { w.lay(api.Ins{Op: api.InsPush, V: v}) }
+
+func (w *writer) pushCount(n int) { w.push(value.Number(api.Num{N: n, D: 1})) }
+
+// part writes what is no area.
+func (w *writer) part(p part) {
+	switch p.Kind {
+	case api.NodeValue:
+		w.push(p.V)
+	case api.NodeCell:
+		w.lay(api.Ins{Op: api.InsLoad, Cell: w.cell(p.A)})
+	case api.NodeUn:
+		w.parts(p.parts)
+		w.lay(api.Ins{Op: api.InsUn, A: p.Op})
+	case api.NodeBin:
+		w.parts(p.parts)
+		w.lay(api.Ins{Op: api.InsBin, A: p.Op})
+	case api.NodeCall:
+		w.call(p)
+	}
+}
+
+func (w *writer) parts(list []part) {
+	for _, p := range list {
+		w.part(p)
+	}
+}
+
+func (w *writer) call(p part) {
+	f, _ := funcs.Of(p.Name)
+	switch f.Class {
+	case api.ClassScalar:
+		w.parts(p.parts)
+		w.lay(api.Ins{Op: api.InsCall, A: f.Id, B: p.Args})
+	case api.ClassFold:
+		w.fold(f.Id, p.parts)
+	case api.ClassSeek:
+		w.seek(f.Id, p.parts)
+	case api.ClassLazy:
+		w.lazy(f.Id, p.parts)
+	}
+}
+
+func (w *writer) fold(id int, args []part) {
+	w.lay(api.Ins{Op: api.InsOpen, A: id})
+	for _, arg := range args {
+		if arg.isArea() {
+			w.lay(api.Ins{Op: api.InsScan, Area: w.area(arg.Node)})
+		} else {
+			w.feed(arg)
+		}
+	}
+	w.lay(api.Ins{Op: api.InsClose})
+}
+
+func (w *writer) feed(p part) {
+	w.part(p)
+	w.lay(api.Ins{Op: api.InsFeed})
+}
+
+func (w *writer) seek(id int, args []part) {
+	areas, values := apart(args)
+	first := w.area(areas[0].Node)
+	switch id {
+	case api.FnRows:
+		w.pushCount(rows(first))
+	case api.FnColumns:
+		w.pushCount(cols(first))
+	case api.FnIndex:
+		w.parts(values)
+		w.lay(api.Ins{Op: api.InsPick, Area: first, B: len(values)})
+	default:
+		w.search(id, first, w.area(areas[len(areas)-1].Node), values)
+	}
+}
+
+// search writes a search with its needle, if it has one, through an area; or, if it pairs cells, through two, which may be one.
+func (w *writer) search(id int, first, last api.Area, needle []part) {
+	w.lay(api.Ins{Op: api.InsOpen, A: id})
+	for _, p := range needle {
+		w.feed(p)
+	}
+	if pairs(id) {
+		w.lay(api.Ins{Op: api.InsScan2, Area: first, Pair: last})
+	} else {
+		w.lay(api.Ins{Op: api.InsScan, Area: first})
+	}
+	w.lay(api.Ins{Op: api.InsClose})
+}
+
+func (w *writer) lazy(id int, args []part) {
+	w.part(args[0])
+	switch id {
+	case api.FnIf:
+		w.branch(args[1], args[2:])
+	case api.FnIfError:
+		w.guard(args[1])
+	case api.FnChoose:
+		w.choose(args[1:])
+	}
+}
+
+// branch writes what stands behind a condition.
+func (w *writer) branch(yes part, no []part) {
+	w.lay(api.Ins{Op: api.InsBranch})
+	beginNo, endFault := w.later(intoA), w.later(intoB)
+	w.part(yes)
+	endYes := w.jump()
+	beginNo()
+	w.parts(no)
+	if len(no) == 0 {
+		w.push(value.Truth(false))
+	}
+	endYes()
+	endFault()
+}
+
+// guard writes what stands behind a value that may be a fault.
+func (w *writer) guard(instead part) {
+	w.lay(api.Ins{Op: api.InsGuard})
+	end := w.later(intoA)
+	w.part(instead)
+	end()
+}
+
+// choose writes what stands behind a number.
+func (w *writer) choose(list []part) {
+	w.lay(api.Ins{Op: api.InsChoose})
+	begin, endFault := w.later(intoTo), w.later(intoB)
+	ends := []func(){endFault}
+	for i, p := range list {
+		if i > 0 {
+			ends = append(ends, w.jump())
+		}
+		begin()
+		w.part(p)
+	}
+	for _, end := range ends {
+		end()
+	}
+}
