@@ -5,6 +5,7 @@ import (
 
 	"whittle/api"
 	"whittle/funcs"
+	"whittle/heights"
 	"whittle/place"
 )
 
@@ -127,16 +128,11 @@ func takes(f api.Sig, args []part) bool {
 
 // shaped: are two areas of which cells are paired of one shape?
 func shaped(id int, args []part) bool {
-	if !pairs(id) {
+	if !heights.Pairs(id) {
 		return true
 	}
 	areas, _ := apart(args)
 	return sameShape(rectangle(areas[0].Node), rectangle(areas[len(areas)-1].Node))
-}
-
-// pairs: does a search go through two areas at once?
-func pairs(id int) bool {
-	return id == api.FnSumIf || id == api.FnLookup || id == api.FnSumProduct
 }
 
 // apart are the arguments that are areas, and all others.

@@ -5,6 +5,7 @@ import (
 
 	"whittle/api"
 	"whittle/funcs"
+	"whittle/heights"
 	"whittle/place"
 	"whittle/value"
 )
@@ -16,7 +17,7 @@ func placed(l []api.Ins) bool {
 			return false
 		}
 		stray := func(to int) bool { return to <= at || to >= len(l) }
-		changed, kept := onward(ins, at)
+		changed, kept := heights.Onward(ins, at)
 		if slices.ContainsFunc(changed, stray) || slices.ContainsFunc(kept, stray) {
 			return false
 		}
@@ -73,21 +74,4 @@ func applies(id, args int) bool {
 func opens(id int) bool {
 	_, why := funcs.Open(id)
 	return why == api.OK
-}
-
-// onward are the places that an instruction hands on to: those to which it hands what it has changed, and those to which it hands what stood there ahead of it. (They may be the instruction's own list.)
-func onward(ins api.Ins, at int) (changed, kept []int) {
-	switch ins.Op {
-	case api.InsBranch:
-		return []int{at + 1, ins.A}, []int{ins.B}
-	case api.InsJump:
-		return nil, []int{ins.A}
-	case api.InsGuard:
-		return []int{at + 1}, []int{ins.A}
-	case api.InsChoose:
-		return ins.To, []int{ins.B}
-	case api.InsStore:
-		return nil, nil
-	}
-	return []int{at + 1}, nil
 }

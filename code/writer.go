@@ -3,6 +3,7 @@ package code
 import (
 	"whittle/api"
 	"whittle/funcs"
+	"whittle/heights"
 	"whittle/value"
 )
 
@@ -113,7 +114,7 @@ func (w *writer) search(id int, first, last api.Area, needle []part) {
 	for _, p := range needle {
 		w.feed(p)
 	}
-	if pairs(id) {
+	if heights.Pairs(id) {
 		w.lay(api.Ins{Op: api.InsScan2, Area: first, Pair: last})
 	} else {
 		w.lay(api.Ins{Op: api.InsScan, Area: first})
