@@ -1,10 +1,9 @@
 package machine
 
 import (
-	"slices"
-
 	"whittle/api"
 	"whittle/funcs"
+	"whittle/pick"
 	"whittle/value"
 )
 
@@ -40,7 +39,7 @@ func (f *Frame) Step(v api.Value) bool {
 	case api.InsClose:
 		f.put(f.close())
 	case api.InsPick:
-		f.put(pick(ins, f.take(ins.B), v))
+		f.put(picked(ins.Area, f.take(ins.B), v))
 	case api.InsBranch:
 		next = f.branch(ins)
 	case api.InsJump:
@@ -86,16 +85,12 @@ func (f *Frame) pass(v api.Value) bool {
 	return !top.Full() && (top.Wants() || f.Left() > 0)
 }
 
-// pick is what a pick by these values comes to, if v is the value of the cell that they tell.
-func pick(ins api.Ins, by []api.Value, v api.Value) api.Value {
-	if _, some := picked(ins, by); some {
+// picked is what a pick by these values comes to, if v is the value of the cell that they tell.
+func picked(a api.Area, by []api.Value, v api.Value) api.Value {
+	if _, some := pick.Cell(a, by...); some {
 		return v
 	}
-	bad := slices.IndexFunc(by, isFault)
-	if bad < 0 {
-		return value.Fault(api.FaultRef)
-	}
-	return by[bad]
+	return pick.None(by...)
 }
 
 func isFault(v api.Value) bool { return v.Kind == api.Fault }
