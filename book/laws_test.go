@@ -8,6 +8,7 @@ import (
 	"testing"
 
 	"whittle/api"
+	"whittle/order"
 )
 
 // pool are cells that the laws' edits name most: many of them of the book of two sheets.
@@ -113,7 +114,7 @@ func parted(t *testing.T, r *rand.Rand, texts map[api.Cell]string) *Book {
 	for _, c := range slices.Concat(b.Cells(0), b.Cells(1)) {
 		l = append(l, api.Change{Cell: c, Text: texts[c]})
 	}
-	for _, c := range slices.SortedFunc(maps.Keys(texts), inOrder) {
+	for _, c := range slices.SortedFunc(maps.Keys(texts), order.Cells) {
 		if b.Kind(c) == api.Empty {
 			l = append(l, api.Change{Cell: c, Text: texts[c]})
 		}

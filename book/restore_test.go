@@ -7,6 +7,7 @@ import (
 	"testing"
 
 	"whittle/api"
+	"whittle/order"
 )
 
 // stateOf is a book's state; nothing else is in it.
@@ -159,7 +160,7 @@ func TestRestoreContents(t *testing.T) { // Promise 11.6: no cell without a text
 		held := api.Held{Cell: w.change.Cell, Text: w.change.Text}
 		wrongState(t, api.State{Sheets: []string{"S", "T"}, Cells: []api.Held{held}})
 		s := ordered(l...)
-		i, _ := slices.BinarySearchFunc(l, held.Cell, inOrder)
+		i, _ := slices.BinarySearchFunc(l, held.Cell, order.Cells)
 		s.Cells = slices.Insert(s.Cells, i, held)
 		wrongState(t, s)
 	}

@@ -48,7 +48,8 @@ func Size(a api.Area) int {
 
 // Has: is a an area, and c one of its cells?
 func Has(a api.Area, c api.Cell) bool {
-	return RightArea(a) && c.Sheet == a.Sheet && c.Row >= a.Top && c.Row <= a.Bottom && c.Col >= a.Left && c.Col <= a.Right
+	// Whether it is an area is asked last: of many areas most don't have c, and that is told sooner.
+	return c.Sheet == a.Sheet && c.Row >= a.Top && c.Row <= a.Bottom && c.Col >= a.Left && c.Col <= a.Right && RightArea(a)
 }
 
 // At is its cell number k; false, if there is none.
