@@ -4,12 +4,13 @@ import (
 	"whittle/api"
 	"whittle/funcs"
 	"whittle/heights"
+	"whittle/parts"
 	"whittle/value"
 )
 
 // writer lays the instructions of a formula, one behind the other.
 type writer struct {
-	site
+	parts.Site
 	list []api.Ins
 }
 
@@ -37,49 +38,49 @@ func (w *writer) push(v api.Value) { w.lay(api.Ins{Op: api.InsPush, V: v}) }
 func (w *writer) pushCount(n int) { w.push(value.Number(api.Num{N: n, D: 1})) }
 
 // part writes what is no area.
-func (w *writer) part(p part) {
+func (w *writer) part(p parts.Part) {
 	switch p.Kind {
 	case api.NodeValue:
 		w.push(p.V)
 	case api.NodeCell:
-		w.lay(api.Ins{Op: api.InsLoad, Cell: w.cell(p.A)})
+		w.lay(api.Ins{Op: api.InsLoad, Cell: w.Cell(p.A)})
 	case api.NodeUn:
-		w.parts(p.parts)
+		w.all(p.Parts)
 		w.lay(api.Ins{Op: api.InsUn, A: p.Op})
 	case api.NodeBin:
-		w.parts(p.parts)
+		w.all(p.Parts)
 		w.lay(api.Ins{Op: api.InsBin, A: p.Op})
 	case api.NodeCall:
 		w.call(p)
 	}
 }
 
-func (w *writer) parts(list []part) {
+func (w *writer) all(list []parts.Part) {
 	for _, p := range list {
 		w.part(p)
 	}
 }
 
-func (w *writer) call(p part) {
+func (w *writer) call(p parts.Part) {
 	f, _ := funcs.Of(p.Name)
 	switch f.Class {
 	case api.ClassScalar:
-		w.parts(p.parts)
+		w.all(p.Parts)
 		w.lay(api.Ins{Op: api.InsCall, A: f.Id, B: p.Args})
 	case api.ClassFold:
-		w.fold(f.Id, p.parts)
+		w.fold(f.Id, p.Parts)
 	case api.ClassSeek:
-		w.seek(f.Id, p.parts)
+		w.seek(f.Id, p.Parts)
 	case api.ClassLazy:
-		w.lazy(f.Id, p.parts)
+		w.lazy(f.Id, p.Parts)
 	}
 }
 
-func (w *writer) fold(id int, args []part) {
+func (w *writer) fold(id int, args []parts.Part) {
 	w.lay(api.Ins{Op: api.InsOpen, A: id})
 	for _, arg := range args {
-		if arg.isArea() {
-			w.lay(api.Ins{Op: api.InsScan, Area: w.area(arg.Node)})
+		if arg.IsArea() {
+			w.lay(api.Ins{Op: api.InsScan, Area: w.Area(arg.Node)})
 		} else {
 			w.feed(arg)
 		}
@@ -87,29 +88,29 @@ func (w *writer) fold(id int, args []part) {
 	w.lay(api.Ins{Op: api.InsClose})
 }
 
-func (w *writer) feed(p part) {
+func (w *writer) feed(p parts.Part) {
 	w.part(p)
 	w.lay(api.Ins{Op: api.InsFeed})
 }
 
-func (w *writer) seek(id int, args []part) {
-	areas, values := apart(args)
-	first := w.area(areas[0].Node)
+func (w *writer) seek(id int, args []parts.Part) {
+	areas, values := parts.Apart(args)
+	first := w.Area(areas[0].Node)
 	switch id {
 	case api.FnRows:
-		w.pushCount(rows(first))
+		w.pushCount(parts.Rows(first))
 	case api.FnColumns:
-		w.pushCount(cols(first))
+		w.pushCount(parts.Cols(first))
 	case api.FnIndex:
-		w.parts(values)
+		w.all(values)
 		w.lay(api.Ins{Op: api.InsPick, Area: first, B: len(values)})
 	default:
-		w.search(id, first, w.area(areas[len(areas)-1].Node), values)
+		w.search(id, first, w.Area(areas[len(areas)-1].Node), values)
 	}
 }
 
 // search writes a search with its needle, if it has one, through an area; or, if it pairs cells, through two, which may be one.
-func (w *writer) search(id int, first, last api.Area, needle []part) {
+func (w *writer) search(id int, first, last api.Area, needle []parts.Part) {
 	w.lay(api.Ins{Op: api.InsOpen, A: id})
 	for _, p := range needle {
 		w.feed(p)
@@ -122,7 +123,7 @@ func (w *writer) search(id int, first, last api.Area, needle []part) {
 	w.lay(api.Ins{Op: api.InsClose})
 }
 
-func (w *writer) lazy(id int, args []part) {
+func (w *writer) lazy(id int, args []parts.Part) {
 	w.part(args[0])
 	switch id {
 	case api.FnIf:
@@ -135,13 +136,13 @@ func (w *writer) lazy(id int, args []part) {
 }
 
 // branch writes what stands behind a condition.
-func (w *writer) branch(yes part, no []part) {
+func (w *writer) branch(yes parts.Part, no []parts.Part) {
 	w.lay(api.Ins{Op: api.InsBranch})
 	beginNo, endFault := w.later(intoA), w.later(intoB)
 	w.part(yes)
 	endYes := w.jump()
 	beginNo()
-	w.parts(no)
+	w.all(no)
 	if len(no) == 0 {
 		w.push(value.Truth(false))
 	}
@@ -150,7 +151,7 @@ func (w *writer) branch(yes part, no []part) {
 }
 
 // guard writes what stands behind a value that may be a fault.
-func (w *writer) guard(instead part) {
+func (w *writer) guard(instead parts.Part) {
 	w.lay(api.Ins{Op: api.InsGuard})
 	end := w.later(intoA)
 	w.part(instead)
@@ -158,7 +159,7 @@ func (w *writer) guard(instead part) {
 }
 
 // choose writes what stands behind a number.
-func (w *writer) choose(list []part) {
+func (w *writer) choose(list []parts.Part) {
 	w.lay(api.Ins{Op: api.InsChoose})
 	begin, endFault := w.later(intoTo), w.later(intoB)
 	ends := []func(){endFault}

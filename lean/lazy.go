@@ -2,7 +2,7 @@ package lean
 
 import (
 	"whittle/api"
-	"whittle/value"
+	"whittle/choice"
 )
 
 // outcome is what IF, IFERROR or CHOOSE comes to by its first argument.
@@ -30,45 +30,9 @@ func (f formula) decided(at int) (outcome, bool) {
 	if !ok {
 		return outcome{}, false
 	}
-	switch call.Id {
-	case api.FnIf:
-		return branch(first, args), true
-	case api.FnIfError:
-		return guard(first, args), true
+	k, v := choice.Of(call.Id, first, len(args))
+	if k == 0 {
+		return outcome{v: v}, true
 	}
-	return choose(first, args), true
-}
-
-// branch is what IF comes to by its condition.
-func branch(condition api.Value, args []int) outcome {
-	yes, fault := value.AsTruth(condition)
-	switch {
-	case isFault(fault):
-		return outcome{v: fault}
-	case yes:
-		return outcome{arg: args[1]}
-	case len(args) == 2:
-		return outcome{v: value.Truth(false)}
-	}
-	return outcome{arg: args[2]}
-}
-
-// guard is what IFERROR comes to by its first argument.
-func guard(first api.Value, args []int) outcome {
-	if isFault(first) {
-		return outcome{arg: args[1]}
-	}
-	return outcome{v: first}
-}
-
-// choose is what CHOOSE comes to by its first argument: as args has that one, too, the others stand at their numbers.
-func choose(first api.Value, args []int) outcome {
-	k, fault := value.AsNumber(first)
-	switch {
-	case isFault(fault):
-		return outcome{v: fault}
-	case k.D != 1 || k.N < 1 || k.N >= len(args):
-		return outcome{v: value.Fault(api.FaultArg)}
-	}
-	return outcome{arg: args[k.N]}
+	return outcome{arg: args[k]}, true
 }

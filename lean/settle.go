@@ -3,8 +3,8 @@ package lean
 import (
 	"whittle/api"
 	"whittle/funcs"
+	"whittle/parts"
 	"whittle/pick"
-	"whittle/place"
 	"whittle/tree"
 	"whittle/value"
 )
@@ -106,11 +106,9 @@ func (f formula) seek(at int) (api.Value, bool) {
 	args := f.parts[at]
 	switch f.call(at).Id {
 	case api.FnRows:
-		a := f.area(args[0])
-		return count(a.Bottom - a.Top + 1), true
+		return count(parts.Rows(f.area(args[0]))), true
 	case api.FnColumns:
-		a := f.area(args[0])
-		return count(a.Right - a.Left + 1), true
+		return count(parts.Cols(f.area(args[0]))), true
 	case api.FnIndex:
 		return f.index(at)
 	case api.FnMatch, api.FnLookup:
@@ -122,11 +120,7 @@ func (f formula) seek(at int) (api.Value, bool) {
 }
 
 // area is the rectangle of an area, on no sheet: nothing that is settled hangs on that.
-func (f formula) area(at int) api.Area {
-	n := f.row[at]
-	a, _ := place.Hull(api.Cell{Row: n.A.Row, Col: n.A.Col}, api.Cell{Row: n.B.Row, Col: n.B.Col})
-	return a
-}
+func (f formula) area(at int) api.Area { return parts.Rectangle(f.row[at]) }
 
 func count(n int) api.Value { return value.Number(api.Num{N: n, D: 1}) }
 

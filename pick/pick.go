@@ -1,4 +1,4 @@
-// Package pick: which cell of an area INDEX picks (DOC.md, 9.2), and what it comes to where it picks none (9.3). Runs hang on it, and what is worked out ahead of them.
+// Package pick: which cell of an area INDEX picks (DOC.md, 9.2), and what it comes to where it picks none (9.3). Runs hang on it, and what is worked out ahead of them or without them.
 package pick
 
 import (
