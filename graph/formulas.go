@@ -4,6 +4,7 @@ import (
 	"iter"
 
 	"whittle/api"
+	"whittle/inside"
 	"whittle/place"
 )
 
@@ -45,29 +46,10 @@ func (fs formulas) at(c api.Cell) *formula {
 func (fs formulas) used(by *formula) iter.Seq[*formula] {
 	return func(yield func(*formula) bool) {
 		for _, a := range by.uses {
-			for f := range fs.in(a) {
+			for _, f := range inside.Of(fs, a) {
 				if !yield(f) {
 					return
 				}
-			}
-		}
-	}
-}
-
-// in are the formulas in an area. Gone through are the area's cells or all formulas, whichever are fewer: areas may be huge.
-func (fs formulas) in(a api.Area) iter.Seq[*formula] {
-	return func(yield func(*formula) bool) {
-		if place.Size(a) > len(fs) {
-			for c, f := range fs {
-				if place.Has(a, c) && !yield(f) {
-					return
-				}
-			}
-			return
-		}
-		for c := range cellsOf(a) {
-			if f, is := fs[c]; is && !yield(f) {
-				return
 			}
 		}
 	}

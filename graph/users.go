@@ -6,6 +6,7 @@ import (
 	"slices"
 
 	"whittle/api"
+	"whittle/inside"
 	"whittle/order"
 	"whittle/place"
 )
@@ -37,6 +38,18 @@ func (u users) drop(c api.Cell, uses []api.Area) {
 	u.wide.drop(c, great...)
 }
 
+// of are the users of a cell, in their order.
+func (u users) of(c api.Cell) []api.Cell {
+	list := slices.Collect(maps.Keys(u.near[c]))
+	for a, by := range u.wide {
+		if place.Has(a, c) {
+			list = slices.AppendSeq(list, maps.Keys(by))
+		}
+	}
+	slices.SortFunc(list, order.Cells)
+	return slices.Compact(list)
+}
+
 // parted are the cells of the small areas, and the great ones.
 func parted(areas []api.Area) (cells []api.Cell, great []api.Area) {
 	for _, a := range areas {
@@ -44,21 +57,9 @@ func parted(areas []api.Area) (cells []api.Cell, great []api.Area) {
 			great = append(great, a)
 			continue
 		}
-		cells = slices.AppendSeq(cells, cellsOf(a))
+		cells = slices.AppendSeq(cells, inside.Cells(a))
 	}
 	return cells, great
-}
-
-// cellsOf are an area's cells.
-func cellsOf(a api.Area) iter.Seq[api.Cell] {
-	return func(yield func(api.Cell) bool) {
-		cursor := place.Over(a)
-		for c, ok := cursor.Next(); ok; c, ok = cursor.Next() {
-			if !yield(c) {
-				return
-			}
-		}
-	}
 }
 
 // flood goes from cells to their users, and finds each once.
