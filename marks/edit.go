@@ -4,6 +4,7 @@ import (
 	"slices"
 
 	"whittle/api"
+	"whittle/edits"
 	"whittle/inside"
 	"whittle/order"
 	"whittle/place"
@@ -15,11 +16,7 @@ func (m *Marks) Edit(changes ...api.Change) api.Refusal {
 	if why.Code != api.OK {
 		return why
 	}
-	var named []api.Cell
-	for _, change := range changes {
-		named = append(named, change.Cell)
-	}
-	m.last = m.follow(named)
+	m.last = m.follow(edits.Cells(changes...))
 	return why
 }
 
