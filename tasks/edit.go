@@ -10,7 +10,7 @@ import (
 
 // Edit is the marks', and aborts the frames that it makes worthless.
 func (t *Tasks) Edit(changes ...api.Change) api.Refusal {
-	stale := t.Count()
+	t.catchUp()
 	why := t.Marks.Edit(changes...)
 	if why.Code != api.OK {
 		return why
@@ -20,9 +20,8 @@ func (t *Tasks) Edit(changes ...api.Change) api.Refusal {
 	touched := slices.Concat(named, t.Reach(named...))
 	for _, c := range touched {
 		t.learn(c)
-		t.queueUp(c)
 	}
-	t.known += t.Count() - stale
+	t.queueUp(touched...)
 	t.aborted = t.abort(touched)
 	return why
 }

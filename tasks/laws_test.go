@@ -456,3 +456,112 @@ func TestQueuesAreLaidAnew(t *testing.T) { // Once, where they are asked first, 
 	nextIs(t, x, 2, "")
 	queuesAreRight(t, x)
 }
+
+func TestQueuesCatchUp(t *testing.T) { // An edit, and a write, makes the queues right, though a state or a Done of others has turned flags past them.
+	x := restored(t, sample())
+	edited(t, x, "C1", "=1")
+	queuesAreRight(t, x)
+	x = opened(t, "A1", "=1", "B1", "=2", "C1", "=B1", "A2", "=9+9")
+	ticked(t, x, 0, 1, 1)
+	doneIs(t, x, "B1")
+	edited(t, x, "IV1", "=B1")
+	queuesAreRight(t, x)
+	doneIs(t, x, "C1")
+	ticked(t, x, 0, 1, 1) // A1 is written
+	valueIs(t, x, "A1", n(1))
+	queuesAreRight(t, x)
+	wroteIs(t, x, 0, "A2 IV1")
+}
+
+// doneOfOthers makes some ready cells fresh past the tasks: by promotion, or by the marks themselves, which is one.
+func doneOfOthers(t *testing.T, r *rand.Rand, x *Tasks) int {
+	t.Helper()
+	count := 0
+	for range 1 + r.Intn(3) {
+		l := all(x, x.ReadyOf)
+		if len(l) == 0 {
+			break
+		}
+		call := []func(api.Cell) api.Errno{x.Done, x.Marks.Done}[r.Intn(2)]
+		if why := call(l[r.Intn(len(l))]); why != api.OK {
+			t.Fatal(why)
+		}
+		count++
+	}
+	return count
+}
+
+// nextIsFirst holds Next against what is ready, seen and under way, as the tasks themselves tell it.
+func nextIsFirst(t *testing.T, x *Tasks, task int) {
+	t.Helper()
+	var want []api.Cell
+	if p, on := x.Parked(task); on {
+		want = []api.Cell{p.Cell}
+	} else {
+		want = x.ReadyOf(task)
+		hidden := func(c api.Cell) bool {
+			return !slices.ContainsFunc(x.Areas(task), func(a api.Area) bool { return place.Has(a, c) })
+		}
+		// They stand in the order of cells, and the sort is stable.
+		slices.SortStableFunc(want, func(a, b api.Cell) int { return x.Level(a) - x.Level(b) })
+		if looked := slices.DeleteFunc(slices.Clone(want), hidden); len(looked) > 0 {
+			want = looked
+		}
+	}
+	next, is := x.Next(task)
+	if is != (len(want) > 0) || is && next != want[0] || !is && next != (api.Cell{}) {
+		t.Fatalf("Next(%d): %s, %v, want the first of %s", task, names(next), is, names(want...))
+	}
+}
+
+func TestLawDone(t *testing.T) { // Promises 16.5, 16.6, 16.10, R7: behind Dones of others, too, wherever they come, a task goes on with the first of its ready cells, and with all of them.
+	r := rand.New(rand.NewSource(1610))
+	dones, steps := 0, 0
+	for range 600 {
+		x, want := opened(t), newModel()
+		for range r.Intn(8) {
+			play(t, r, x, want)
+		}
+		if r.Intn(2) == 0 {
+			x = restored(t, want.state())
+		}
+		for range 12 {
+			switch task := r.Intn(3); r.Intn(6) {
+			case 0, 1:
+				dones += doneOfOthers(t, r, x)
+			case 2, 3:
+				x.Edit(randomEdit(r, true)...)
+			case 4:
+				x.See(task, randomViews(r, task)...)
+			default:
+				steps += tickOfFirst(t, x, task, randomBudget(r))
+			}
+			if r.Intn(3) == 0 { // not each time: Next itself makes the queues catch up
+				nextIsFirst(t, x, r.Intn(3))
+			}
+		}
+		settle(t, x)
+	}
+	if dones < 1000 || steps < 500 {
+		t.Error(dones, steps)
+	}
+}
+
+// tickOfFirst ticks step by step; each step is of the first ready cell, or of the frame. It tells how many were done.
+func tickOfFirst(t *testing.T, x *Tasks, task, budget int) int {
+	t.Helper()
+	steps := 0
+	for range budget {
+		next, is := x.Next(task)
+		nextIsFirst(t, x, task)
+		l := traced(t, x, task, 1)
+		if len(l) > 0 != is || is && l[0].Cell != next {
+			t.Fatalf("Trace(%d, 1): %v, next was %s, %v", task, l, names(next), is)
+		}
+		if !is {
+			break
+		}
+		steps++
+	}
+	return steps
+}

@@ -33,6 +33,9 @@ func wroteIs(t *testing.T, x *Tasks, task int, want string) {
 		if !ok {
 			break
 		}
+		if !x.Stale(c) {
+			t.Fatalf("Next(%d): %s, which is fresh", task, names(c))
+		}
 		for x.Stale(c) {
 			if next, ok := x.Next(task); next != c || !ok {
 				t.Fatalf("Next(%d): %s in the midst of %s", task, names(next), names(c))
@@ -127,4 +130,83 @@ func TestNextTurnsNothing(t *testing.T) { // Promises 16.5, 16.8: asked ever so 
 	}
 	edited(t, x, "A1", "=2")
 	abortedIs(t, x, "")
+}
+
+// doneIs is a Done that must be taken, as others than a tick may call it.
+func doneIs(t *testing.T, x *Tasks, name string) {
+	t.Helper()
+	if why := x.Done(at(name)); why != api.OK {
+		t.Fatalf("Done(%s): %d", name, why)
+	}
+}
+
+// waiting is tasks of a state: A1 holds 2, and B1 =A1, which is stale and was never fresh with contents.
+func waiting(t *testing.T) *Tasks {
+	t.Helper()
+	return restored(t, api.State{
+		Sheets:  []string{"S"},
+		Version: 1,
+		Cells: []api.Held{
+			{Cell: at("A1"), Text: "2", V: n(2), Ever: true, Version: 1},
+			{Cell: at("B1"), Text: "=A1", Stale: true},
+		},
+		Views:  make([][]api.Area, 1),
+		Frames: make([]api.Flight, 1),
+	})
+}
+
+func TestNextBehindDoneOfState(t *testing.T) { // Promises 16.5, 16.6, 16.10: what a state says, an edit adds and a Done takes away leaves as many stale as there were: yet it is another cell that is ready.
+	for _, done := range []string{"B1", "C1"} {
+		x := waiting(t)
+		edited(t, x, "C1", "=A1")
+		staleAre(t, x, "B1 C1", "B1 C1")
+		doneIs(t, x, done)
+		left := map[string]string{"B1": "C1", "C1": "B1"}[done]
+		staleAre(t, x, left, left)
+		nextIs(t, x, 0, left)
+		ticked(t, x, 0, 9, 2)
+		valueIs(t, x, left, n(2))
+		staleAre(t, x, "", "")
+		nextIs(t, x, 0, "")
+		ticked(t, x, 0, 9, 0)
+	}
+}
+
+func TestTickBehindDoneOfState(t *testing.T) { // Promises 16.6, 16.7: the same, with nothing asked between.
+	x := waiting(t)
+	edited(t, x, "C1", "=A1", "D1", "=C1")
+	doneIs(t, x, "C1")
+	doneIs(t, x, "D1")
+	ticked(t, x, 0, 9, 2)
+	staleAre(t, x, "", "")
+	valueIs(t, x, "B1", n(2))
+	x = waiting(t)
+	edited(t, x, "C1", "=A1")
+	doneIs(t, x, "C1")
+	if l := traced(t, x, 0, 9); len(l) != 2 || l[0].Cell != at("B1") || !l[1].Wrote || l[1].V != n(2) {
+		t.Errorf("Trace: %v", l)
+	}
+}
+
+func TestNextBehindDoneAndEdit(t *testing.T) { // Promise 16.5: a Done ahead of an edit that makes as many stale again, with nothing asked between.
+	x := opened(t, "A1", "1", "B1", "=A1", "C1", "=A1")
+	nextIs(t, x, 0, "B1")
+	doneIs(t, x, "B1")
+	edited(t, x, "D1", "=A1")
+	wroteIs(t, x, 0, "C1 D1")
+	edited(t, x, "A1", "2")
+	doneIs(t, x, "B1")
+	edited(t, x, "B1", "=A1") // stale anew
+	wroteIs(t, x, 0, "B1 C1 D1")
+}
+
+func TestNextBehindDoneOfFrame(t *testing.T) { // Promises 15.4, 16.5: Done turns nothing of a frame; when that has written, the ready cells come, those that others have readied too.
+	x := opened(t, "A1", "1", "B1", "=A1", "C1", "=B1+1", "D1", "=A1")
+	ticked(t, x, 0, 1, 1)
+	doneIs(t, x, "B1")
+	parkedIs(t, x, 0, "B1", 1)
+	staleAre(t, x, "C1 D1", "C1 D1")
+	ticked(t, x, 0, 1, 1)
+	valueIs(t, x, "B1", n(1))
+	wroteIs(t, x, 0, "D1 C1")
 }

@@ -92,12 +92,8 @@ func (t *Tasks) begin(task int) {
 
 // write makes a cell fresh, with the value that its frame has come to.
 func (t *Tasks) write(c api.Cell, v api.Value) {
+	t.catchUp()
 	t.told[c] = v
-	if t.Done(c) == api.OK {
-		t.known--
-	}
-	t.queueUp(c)
-	for _, user := range t.Users(c) {
-		t.queueUp(user)
-	}
+	t.Done(c)
+	t.queueUp(append(t.Users(c), c)...)
 }
