@@ -1,8 +1,9 @@
-// Package inside: what lies in an area: its cells, and of what is kept by cells just those.
+// Package inside: what lies in an area: its cells, and of what is kept by cells just those; whether a cell lies in one of several.
 package inside
 
 import (
 	"iter"
+	"slices"
 
 	"whittle/api"
 	"whittle/place"
@@ -37,4 +38,9 @@ func Of[V any](kept map[api.Cell]V, a api.Area) iter.Seq2[api.Cell, V] {
 			}
 		}
 	}
+}
+
+// Any says whether one of the areas has a cell.
+func Any(areas []api.Area, c api.Cell) bool {
+	return slices.ContainsFunc(areas, func(a api.Area) bool { return place.Has(a, c) })
 }

@@ -100,3 +100,18 @@ func TestGivenUp(t *testing.T) { // Whoever goes through them may stop at any.
 		}
 	}
 }
+
+func TestAny(t *testing.T) {
+	areas := []api.Area{{Sheet: 1, Top: 1, Left: 1, Bottom: 2, Right: 2}, {Top: 5, Bottom: 4}, {Sheet: 1, Top: 2, Left: 2, Bottom: 9, Right: 2}}
+	for c, want := range map[api.Cell]bool{
+		{Sheet: 1, Row: 1, Col: 1}: true, {Sheet: 1, Row: 2, Col: 2}: true, {Sheet: 1, Row: 9, Col: 2}: true,
+		{Row: 1, Col: 1}: false, {Sheet: 1, Row: 3, Col: 1}: false, {Sheet: 1, Row: 10, Col: 2}: false, {Row: 5}: false, {Sheet: -1, Row: -1}: false,
+	} {
+		if got := Any(areas, c); got != want {
+			t.Errorf("Any of %v: %v", c, got)
+		}
+		if Any(nil, c) {
+			t.Errorf("no area has %v", c)
+		}
+	}
+}

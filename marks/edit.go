@@ -7,7 +7,6 @@ import (
 	"whittle/edits"
 	"whittle/inside"
 	"whittle/order"
-	"whittle/place"
 )
 
 // Edit is the graph's; what it makes worthless is stale from then on.
@@ -71,7 +70,7 @@ func (m *Marks) recount(c api.Cell) {
 	for i, a := range uses {
 		for used := range inside.Of(m.stale, a) {
 			// What an area ahead has, too, was counted with that one.
-			if !anyHas(uses[:i], used) {
+			if !inside.Any(uses[:i], used) {
 				n++
 			}
 		}
@@ -86,9 +85,4 @@ func (m *Marks) wait(c api.Cell, n int) {
 		return
 	}
 	m.waits[c] = n
-}
-
-// anyHas says whether one of the areas has a cell.
-func anyHas(areas []api.Area, c api.Cell) bool {
-	return slices.ContainsFunc(areas, func(a api.Area) bool { return place.Has(a, c) })
 }
