@@ -2,6 +2,7 @@ package tasks
 
 import (
 	"whittle/api"
+	"whittle/flights"
 	"whittle/machine"
 	"whittle/marks"
 	"whittle/value"
@@ -61,12 +62,12 @@ func (t *Tasks) look(views [][]api.Area) bool {
 }
 
 // fly takes in a state's frames; false, if they are not one a task, or can't be a task's.
-func (t *Tasks) fly(flights []api.Flight) bool {
-	if len(flights) != len(t.frames) {
+func (t *Tasks) fly(frames []api.Flight) bool {
+	if len(frames) != len(t.frames) {
 		return false
 	}
-	for task, flight := range flights {
-		right := nothingElse(flight)
+	for task, flight := range frames {
+		right := flights.Off(flight)
 		if flight.On {
 			right = t.goOn(task, flight)
 		}
@@ -75,12 +76,6 @@ func (t *Tasks) fly(flights []api.Flight) bool {
 		}
 	}
 	return true
-}
-
-// nothingElse says whether all fields of a flight but On are zero. (Empty lists are none.)
-func nothingElse(flight api.Flight) bool {
-	f := flight.Frame
-	return flight.Cell == api.Cell{} && f.At == 0 && f.Steps == 0 && len(f.Stack) == 0 && len(f.Accs) == 0 && f.Scans == 0 && !f.Done
 }
 
 // goOn goes on with a task's flight; false, if it can't be parked so.
