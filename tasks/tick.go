@@ -3,6 +3,7 @@ package tasks
 import (
 	"whittle/api"
 	"whittle/machine"
+	"whittle/steps"
 )
 
 // Tick does steps of a task, as many as there are to do, but no more than the budget: how many.
@@ -51,23 +52,17 @@ func (t *Tasks) refuses(task, budget int) api.Errno {
 }
 
 // step does a step of a task, and tells it; false, if the task has nothing to do.
-func (t *Tasks) step(task int) (api.Event, bool) {
+func (t *Tasks) step(task int) (event api.Event, did bool) {
 	f := t.under(task)
 	if f == nil {
 		return api.Event{}, false
 	}
-	event := api.Event{Cell: f.cell}
-	event.Read, event.Reads = f.Wants()
-	if event.Reads {
-		event.V = t.Value(event.Read)
-	}
-	f.Step(event.V)
-	if result, done := f.Result(); done {
-		event.V, event.Wrote = result, true
+	event, did = steps.Next(f.Frame, f.cell, t.Value)
+	if event.Wrote {
 		t.frames[task] = nil
-		t.write(f.cell, result)
+		t.write(f.cell, event.V)
 	}
-	return event, true
+	return event, did
 }
 
 // under is the frame that a task has under way, or else one that begins; nil, if there is nothing to begin.
