@@ -1,6 +1,7 @@
 package plain
 
 import (
+	"whittle/among"
 	"whittle/api"
 	"whittle/graph"
 	"whittle/parts"
@@ -13,7 +14,7 @@ type finder struct {
 	*Values
 	graph    *graph.Graph
 	sheets   []string
-	formulas filled // those that are to be worked out
+	formulas among.Cells // those that are to be worked out
 }
 
 // all finds it of all cells.
@@ -41,7 +42,7 @@ func (f *finder) formula(c api.Cell) {
 	// It counts as known meanwhile: so this ends even where a circle was laid behind the graph's back, by an edit of its book alone.
 	f.found[c] = finding{}
 	for _, a := range f.graph.Uses(c) {
-		for _, used := range f.formulas.in(a) {
+		for _, used := range f.formulas.In(a) {
 			f.formula(used)
 		}
 	}

@@ -8,7 +8,6 @@ import (
 	"whittle/api"
 	"whittle/code"
 	"whittle/graph"
-	"whittle/order"
 	"whittle/tree"
 )
 
@@ -158,38 +157,5 @@ func TestEditByEdit(t *testing.T) { // Promise 13.1, R4: what each edit leaves; 
 			}
 		}
 		old, was = p, told(p, all)
-	}
-}
-
-func TestCellsInAnArea(t *testing.T) { // Promise 13.6: of many cells just those of the area, in their order, with their numbers in it.
-	r := rand.New(rand.NewSource(139))
-	for range 3000 {
-		rows, cols, sheets := 1+r.Intn(12), 1+r.Intn(12), 1+r.Intn(3)
-		var f filled
-		for range r.Intn(60) {
-			f = append(f, api.Cell{Sheet: r.Intn(sheets), Row: r.Intn(rows), Col: r.Intn(cols)})
-		}
-		slices.SortFunc(f, order.Cells)
-		f = slices.Compact(f)
-		a := api.Area{Sheet: r.Intn(3), Top: r.Intn(rows), Left: r.Intn(cols)}
-		a.Bottom, a.Right = a.Top+r.Intn(rows), a.Left+r.Intn(cols)
-		most := r.Intn(20)
-		var got, want []api.Cell
-		for k, c := range f.in(a) {
-			if listed(a)[k] != c {
-				t.Fatalf("%v has the number %d in %v", c, k, a)
-			}
-			if got = append(got, c); len(got) == most {
-				break
-			}
-		}
-		for _, c := range listed(a) {
-			if slices.Contains(f, c) && (most == 0 || len(want) < most) {
-				want = append(want, c)
-			}
-		}
-		if !slices.Equal(got, want) {
-			t.Fatalf("of %v %v are in %v, want %v", f, got, a, want)
-		}
 	}
 }

@@ -68,7 +68,7 @@ func (r reckoner) scan(t *taker, area, partners api.Area) int {
 		return 1
 	}
 	paired := 0
-	for k, c := range r.in(area) {
+	for k, c := range r.filled.In(area) {
 		t.passed = k + 1
 		t.Cell(r.Value(c))
 		if t.Wants() {
